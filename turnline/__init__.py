@@ -1,0 +1,1 @@
+"""Turnline: trains that are to be turned round."""
