@@ -14,6 +14,11 @@ len range enumerate zip min max sum abs sorted reversed int str bool bytes list 
 any all divmod Exception ValueError TypeError KeyError IndexError LookupError ZeroDivisionError ArithmeticError
 OverflowError RuntimeError NotImplementedError AttributeError StopIteration
 """.split()
+METHODS = """
+append clear copy count endswith extend find get index insert isalnum isalpha isdigit islower isspace isupper items
+join keys ljust lower lstrip partition pop remove replace reverse rfind rjust rpartition rsplit rstrip setdefault split
+splitlines startswith strip update upper values zfill bit_length add discard sort
+""".split()
 WORDS_OUT = re.compile(
     r"\b(type|typing|typing_extensions|enum|Enum|IntEnum|StrEnum|Flag|IntFlag|Generic|Protocol|ABC|ABCMeta|namedtuple"
     r"|NamedTuple|TypedDict|TYPE_CHECKING|abstractmethod)\b|dataclass|overload|contextmanager")
@@ -122,6 +127,26 @@ class Language(unittest.TestCase):
             for node in ast.walk(tree_of(file)):
                 if isinstance(node, ast.Name):
                     self.assertIn(node.id, bound + PYTHONS_NAMES, file.name)
+
+    def test_methods(self):
+        """L24, L25, L26"""
+        own = [node.name for node, _ in nodes(ast.FunctionDef)]
+        for node, place in nodes(ast.Call):
+            if isinstance(node.func, ast.Attribute):
+                self.assertIn(node.func.attr, METHODS + own, place)
+
+    def test_no_file_draws_from_one_that_draws_from_it(self):
+        """L16"""
+        draws = {file.stem: set() for file in FILES}
+        for file in FILES:
+            for node in tree_of(file).body:
+                if isinstance(node, ast.ImportFrom):
+                    draws[file.stem].add(node.module.split(".")[1])
+        while draws:
+            free = [stem for stem, drawn in draws.items() if not drawn & set(draws)]
+            self.assertNotEqual(free, [], draws)
+            for stem in free:
+                del draws[stem]
 
     def test_is_stands_beside_none_true_and_false_alone(self):
         """L20"""

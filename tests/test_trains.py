@@ -3,47 +3,10 @@
 import unittest
 from itertools import product
 
-from tests.helper import FORTY_FIGURES, ask, chain, refuse, small_lines
+from tests.helper import (
+    FORTY_FIGURES, RING, TRIANGLE, ask, chain, is_train, moves_by_words, refuse, small_lines, small_trains)
 from turnline.errors import NoMove, NoTrain
 from turnline.trains import check_train, done, moves_of, turned
-
-# A triangle of 0, 1, 2, each with its greater end joined with the next one's lesser one; 3 and 4 leave it by switches.
-TRIANGLE = (5, [(1, 2), (3, 4), (0, 5), (1, 6), (5, 8), (7, 9)])
-# A row of six pieces whose last one leads back to the first one.
-RING = (6, [(0, 11)] + chain(6)[1])
-
-
-def is_joint(line, a, b):
-    return (a, b) in line[1] or (b, a) in line[1]
-
-
-def is_train(line, train):
-    """Point [7] word by word, to hold check_train against."""
-    pieces = [end // 2 for end in train]
-    if not train or len(set(pieces)) != len(pieces):
-        return False
-    for end in train:
-        if end not in range(2 * line[0]):
-            return False
-    return all(is_joint(line, train[at] ^ 1, train[at + 1]) for at in range(len(train) - 1))
-
-
-def moves_by_words(line, train):
-    """Point [8] word by word, over all ends, to hold moves_of against."""
-    free = [end for end in range(2 * line[0]) if end not in train and end ^ 1 not in train]
-    on = [(("on", end), train[1:] + [end]) for end in free if is_joint(line, train[-1] ^ 1, end)]
-    back = [(("back", end), [end ^ 1] + train[:-1]) for end in free if is_joint(line, train[0], end)]
-    return on + back
-
-
-def small_trains():
-    """Every twenty-third small line, with every train of it."""
-    for at, line in enumerate(small_lines()):
-        if at % 23 == 0 or at < 20:
-            for length in (1, 2, 3):
-                for ends in product(range(2 * line[0]), repeat=length):
-                    if is_train(line, list(ends)):
-                        yield line, list(ends)
 
 
 class CheckTrain(unittest.TestCase):
