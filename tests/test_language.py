@@ -22,6 +22,15 @@ splitlines startswith strip update upper values zfill bit_length add discard sor
 WORDS_OUT = re.compile(
     r"\b(type|typing|typing_extensions|enum|Enum|IntEnum|StrEnum|Flag|IntFlag|Generic|Protocol|ABC|ABCMeta|namedtuple"
     r"|NamedTuple|TypedDict|TYPE_CHECKING|abstractmethod)\b|dataclass|overload|contextmanager")
+NAMES_OUT = """
+register mro elements open input version_info with_traceback add_note attrgetter breakpoint builtins compile copyright
+credits delattr dir eval exec exit gc getattr globals hasattr help id importlib license locals methodcaller os quit
+setattr super type vars sys chr frozenset print
+""".split()
+# What is walked on the spot, and the calls in which it may stand as the first thing.
+WALKED = ("zip", "enumerate", "reversed", "range", "items", "keys", "values")
+WALKERS = ("list", "tuple", "dict", "sorted", "sum", "any", "all", "enumerate", "zip", "bytes", "reversed", "len")
+OWN_DOUBLE = ("__init__", "__eq__", "__repr__", "__str__", "__len__")
 NODES_OUT = (
     ast.Import, ast.With, ast.Match, ast.Global, ast.Nonlocal, ast.Yield, ast.YieldFrom, ast.AsyncFunctionDef,
     ast.AsyncFor, ast.AsyncWith, ast.Await, ast.GeneratorExp, ast.NamedExpr, ast.Div, ast.MatMult)
@@ -55,6 +64,24 @@ def top_names(file):
 def own_names(file):
     drawn = [name.name for node in tree_of(file).body if isinstance(node, ast.ImportFrom) for name in node.names]
     return [name for name in top_names(file) if name not in drawn]
+
+
+def called(node):
+    """The name of a call's function or method, or None."""
+    if not isinstance(node, ast.Call):
+        return None
+    return getattr(node.func, "id", None) or getattr(node.func, "attr", None)
+
+
+def is_plain(node, known):
+    """Whether a top's value is plain: numbers, texts, tuples, lists and dicts of these and of functions above."""
+    if isinstance(node, ast.Constant):
+        return True
+    if isinstance(node, ast.Name):
+        return node.id in known
+    if isinstance(node, (ast.Tuple, ast.List)):
+        return all(is_plain(part, known) for part in node.elts)
+    return isinstance(node, ast.Dict) and all(is_plain(part, known) for part in node.keys + node.values)
 
 
 class Language(unittest.TestCase):
@@ -92,6 +119,95 @@ class Language(unittest.TestCase):
             names = top_names(file)
             self.assertEqual(len(names), len(set(names)), file.name)
             self.assertIsNotNone(ast.get_docstring(tree_of(file)), file.name)
+
+    def test_what_stands_at_a_top(self):
+        """L3, L5, L15: plain values and defs of the file itself; in a class methods alone."""
+        for file in FILES:
+            known = []
+            for at, node in enumerate(tree_of(file).body):
+                if isinstance(node, ast.FunctionDef):
+                    known.append(node.name)
+                elif isinstance(node, ast.Assign):
+                    self.assertTrue(is_plain(node.value, known), f"{file.name}:{node.lineno}")
+                elif isinstance(node, ast.Expr):
+                    self.assertEqual(at, 0, f"{file.name}:{node.lineno}")
+                else:
+                    self.assertIsInstance(node, (ast.ImportFrom, ast.ClassDef))
+        for node, place in nodes(ast.ClassDef):
+            for part in node.body:
+                self.assertTrue(
+                    isinstance(part, ast.FunctionDef)
+                    or isinstance(part, ast.Expr) and isinstance(part.value, ast.Constant), place)
+
+    def test_locals_are_called_unlike_imports_and_classes(self):
+        """L15"""
+        for file in FILES:
+            tree = tree_of(file)
+            drawn = [name for name in top_names(file) if name not in own_names(file)]
+            drawn += [node.name for node in tree.body if isinstance(node, ast.ClassDef)]
+            given = [node.arg for node in ast.walk(tree) if isinstance(node, ast.arg)]
+            names = [node for node in ast.walk(tree) if isinstance(node, ast.Name)]
+            given += [node.id for node in names if isinstance(node.ctx, ast.Store)]
+            self.assertEqual(set(drawn) & set(given), set(), file.name)
+
+    def test_names_that_are_not_used(self):
+        """L8, L12, L17"""
+        for node, place in nodes(ast.Name, ast.Attribute, ast.arg, ast.FunctionDef, ast.ClassDef):
+            for field in ("id", "attr", "arg", "name"):
+                name = getattr(node, field, "")
+                self.assertNotIn(name, NAMES_OUT, place)
+                self.assertTrue(not name.startswith("_") or name in OWN_DOUBLE, place)
+
+    def test_methods_and_values_of_own_classes(self):
+        """L18, L26"""
+        pythons = {name for kind in (str, int, list, dict, set, bytes, tuple) for name in dir(kind)}
+        methods = [
+            part.name for node, _ in nodes(ast.ClassDef) for part in node.body if isinstance(part, ast.FunctionDef)]
+        values = [node.attr for node, _ in nodes(ast.Attribute) if isinstance(node.ctx, ast.Store)]
+        self.assertEqual(set(methods) & set(values), set())
+        self.assertEqual((set(methods) - set(OWN_DOUBLE) | set(values)) & pythons, set())
+        calls = [node.func for node, _ in nodes(ast.Call)]
+        for node, place in nodes(ast.Attribute):
+            if not any(ast.dump(node) == ast.dump(call) for call in calls):
+                self.assertIn(node.attr, values, place)
+
+    def test_errors_are_made_on_the_spot_and_taken_by_name(self):
+        """L19"""
+        errors = own_names(PACKAGE / "errors.py")
+        for node, place in nodes(ast.Raise):
+            self.assertIn(called(node.exc), errors, place)
+            self.assertEqual(node.exc.keywords, [], place)
+        for node, place in nodes(ast.ExceptHandler):
+            self.assertIn(getattr(node.type, "id", None), errors, place)
+
+    def test_what_is_walked_on_the_spot(self):
+        """L23"""
+        allowed = []
+        for node, _ in nodes(ast.For, ast.comprehension):
+            allowed.append(ast.dump(node.iter))
+        for node, _ in nodes(ast.Call):
+            if called(node) in WALKERS:
+                allowed += [ast.dump(part) for part in node.args]
+        for node, place in nodes(ast.Call):
+            if called(node) in WALKED:
+                self.assertIn(ast.dump(node), allowed, place)
+
+    def test_keywords(self):
+        """L22: none stands in this package."""
+        for node, place in nodes(ast.Call):
+            self.assertEqual(node.keywords, [], place)
+
+    def test_numbers_and_texts(self):
+        """L27"""
+        for node, place in nodes(ast.Constant):
+            if isinstance(node.value, str):
+                self.assertNotIn("%", node.value, place)
+        for file in FILES:
+            self.assertIsNone(re.search(r"\\[^nt\\'\"]", file.read_text("utf-8")), file.name)
+        for node, place in nodes(ast.FormattedValue):
+            self.assertIsNone(node.format_spec, place)
+            self.assertEqual([part for part in ast.walk(node.value) if isinstance(part, ast.Constant)], [], place)
+        self.assertEqual([place for _, place in nodes(ast.Pow)], [])
 
     def test_statements_and_values(self):
         """L6, L7"""

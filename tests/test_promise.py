@@ -1,4 +1,4 @@
-"""The promise [4], as far as it speaks of standings, fewest moves and changes, and turning round."""
+"""The promise [4]."""
 
 import unittest
 from random import Random
@@ -8,10 +8,11 @@ from tests.helper import (
     trains_by_words)
 from turnline.changing import are_ways, fewest
 from turnline.errors import TooMany
+from turnline.groups import groups, longest, trains_of
 from turnline.lines import hang_together
 from turnline.runs import changes, walked
 from turnline.sides import keeps, sides, turn
-from turnline.standings import are_numbers, is_shut, least
+from turnline.standings import are_numbers, come_to, is_shut, least
 from turnline.trains import turned
 
 
@@ -108,6 +109,49 @@ class Promise(unittest.TestCase):
                 self.assertIn(turned(part), standings_of(rows))
                 if len(rows) <= 300:
                     self.assertLessEqual(len(turn(line, part)[1]), moves + len(train) - len(part))
+
+    def groups_by_chance(self):
+        """Lines and lengths with their groups, of those that are not too many."""
+        for line in list(chance_lines(60, 187)) + [LOOP, RING, TRIANGLE]:
+            for length in range(1, 7):
+                if len(trains_by_words(line, length)) <= 300:
+                    yield line, length, groups(line, length)
+
+    def test_all_standings_of_a_length_are_parted_into_groups(self):
+        for line, length, told in self.groups_by_chance():
+            standings = [standing for group, _ in told for standing in group]
+            self.assertEqual(sorted(standings), trains_of(line, length))
+            self.assertEqual([group[0] for group, _ in told], sorted(min(group) for group, _ in told))
+
+    def test_each_group_leads_to_itself_alone(self):
+        for line, length, told in self.groups_by_chance():
+            for group, _ in told:
+                self.assertIs(is_shut(line, group[0], group), True)
+                for standing in group[::17]:
+                    self.assertEqual(sorted(come_to(line, standing)), group)
+
+    def test_turned_round_a_group_is_a_group(self):
+        for line, length, told in self.groups_by_chance():
+            for at, (group, twin) in enumerate(told):
+                self.assertEqual(sorted(turned(standing) for standing in group), told[twin][0])
+                self.assertEqual(told[twin][1], at)
+                kind = "run" if twin == at else "none"
+                self.assertEqual({turn(line, standing)[0] for standing in group[::17]}, {kind})
+
+    def test_no_shorter_length_is_without_a_train_that_can_be_turned_round(self):
+        looked_at = 0
+        for line in list(chance_lines(60, 188)) + [LOOP, RING, TRIANGLE]:
+            try:
+                pieces, train = longest(line)
+            except TooMany:
+                continue
+            looked_at += 1
+            for length in range(1, 7):
+                own = [group for at, (group, twin) in enumerate(groups(line, length)) if twin == at]
+                self.assertEqual(bool(own), length <= pieces)
+            markings = [piece for piece in range(line[0]) if sides(line, piece)[0] == "marking"]
+            self.assertEqual(len(markings) == line[0], train is None)
+        self.assertGreater(looked_at, 30)
 
     def test_whatever_the_judges_let_by_is_right(self):
         chance = Random(186)
